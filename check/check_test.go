@@ -20,7 +20,9 @@ func list() []api.Check {
 
 // 24.1: what is valid.
 func TestMay(t *testing.T) {
-	if !May(list()) || !May(list()[:1]) || !May(nil) {
+	dense := list()
+	dense[3].Calls = []int{0, 1, 2, 8}
+	if !May(dense) || !May(list()) || !May(list()[:1]) || !May(nil) {
 		t.Error("good")
 	}
 	for i, change := range []func([]api.Check){

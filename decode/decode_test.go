@@ -60,6 +60,24 @@ func TestScalars(t *testing.T) {
 	}
 }
 
+// 3.1: at every edge of Table 3-7, Go's own decoder agrees on what is well-formed.
+func TestEdges(t *testing.T) {
+	edges := []byte{0x00, 0x7F, 0x80, 0x8F, 0x90, 0x9F, 0xA0, 0xBF, 0xC0, 0xFF}
+	for lead := 0x80; lead < 0x100; lead++ {
+		for n := range 1000 {
+			b := []byte{byte(lead), edges[n/100], edges[n/10%10], edges[n%10]}
+			r, size := utf8.DecodeRune(b)
+			it := All(b)[0]
+			if it.Bad != (r == utf8.RuneError) || !it.Bad && (it.Rune != r || it.To != size) {
+				t.Fatalf("%x: %v", b, it)
+			}
+			if want := it.To == 1 && !utf8.FullRune(b[:1]) || it.To > 1; it.Bad && (it.More != want || utf8.FullRune(b[:it.To]) == it.More) {
+				t.Fatalf("%x: %v", b, it)
+			}
+		}
+	}
+}
+
 // 3.1: what is no scalar value is put as FFFD.
 func TestPut(t *testing.T) {
 	if !bytes.Equal(Put(0xE9), []byte{0xC3, 0xA9}) {

@@ -177,6 +177,11 @@ func TestSame(t *testing.T) {
 			t.Errorf("%d", i)
 		}
 	}
+	one, two := must(t, grammar()), must(t, grammar())
+	two.Step(o, 1)
+	if one.State() != two.State() || one.Same(two, 0, 0) || two.Same(one, 0, 0) {
+		t.Error("an empty stack")
+	}
 	y, z := run("oo", 100, 102), x.Save()
 	if !x.Same(y, 0, 0) || !z.Same(x, 0, 0) || z.Same(x, 102, 1) || z.Same(x, 100, -1) {
 		t.Error("shared parts")

@@ -43,6 +43,14 @@ func TestEmpty(t *testing.T) {
 	if !Same(Whole(nil, []byte("a")), api.Out{}) || !Same(Whole(nil, nil), api.Out{}) || !Same(Whole(x, large), api.Out{}) || !Same(Model(x.Grammar(), large), api.Out{}) || !Same(Model(api.Grammar{}, []byte("a")), api.Out{}) || !Same(Whole(new(compile.Tables), []byte("a")), api.Out{}) {
 		t.Error("not empty")
 	}
+	for i := range large {
+		large[i] = 'x'
+	}
+	large[1], large[api.MaxDoc] = '"', '"'
+	if got := Model(x.Grammar(), large[1:]); len(got.Spans) != 1 || len(got.Checks) != 1 {
+		t.Error(len(got.Spans))
+	}
+	large = make([]byte, api.MaxDoc+1)
 	if got := Whole(x, large[1:]); len(got.Spans) != api.MaxDoc || len(got.Diags) != api.MaxDoc {
 		t.Error(len(got.Spans))
 	}

@@ -146,6 +146,9 @@ func TestAny(t *testing.T) {
 				t.Fatal("Feed")
 			}
 			at += n
+			if end := settled(x, []byte(s[:at])); r.Intn(3) == 0 && string(f.Carried()) != s[end:at] {
+				t.Fatalf("%q after %d: carried %q", s, at, f.Carried())
+			}
 			if ask == 0 || ask == 1 && r.Intn(3) == 0 {
 				out := f.Out()
 				if want := part(x, []byte(s[:at])); !emit.Same(out, want) || !begins(was, out) {

@@ -61,7 +61,7 @@ func full(n int) api.Pat {
 
 // 11.1: names.
 func TestName(t *testing.T) {
-	for _, s := range []string{"a", "a1", "z9", "abcdefghijkl", "tokk", "to", "in", "call1"} {
+	for _, s := range []string{"a", "a1", "z9", "abcdefghijkl", "tokk", "a0", "to", "in", "call1"} {
 		if !Name(s) {
 			t.Error(s)
 		}
@@ -143,6 +143,7 @@ func TestCheck(t *testing.T) {
 		{step(api.Pat{}), api.ErrKind, 4}, {step(api.Pat{Kind: 8}), api.ErrKind, 4}, {step(tok()), api.ErrKind, 4}, {step(tok("x")), api.ErrName, 4}, {step(tok("a", "a")), api.ErrName, 4}, {step(tok("o")), api.ErrKind, 4},
 		{step(api.Pat{Kind: api.PTok, Names: []string{"a"}, Ends: []string{"c"}}), api.ErrKind, 4}, {step(api.Pat{Kind: api.PTok, Names: []string{"a"}, L: []api.Pat{empty}}), api.ErrKind, 4},
 		{step(api.Pat{Kind: api.PEmpty, Names: []string{"a"}}), api.ErrKind, 4}, {step(api.Pat{Kind: api.PWell, L: []api.Pat{empty}}), api.ErrKind, 4}, {step(api.Pat{Kind: api.PWell, Ends: []string{"c"}}), api.ErrKind, 4},
+		{step(api.Pat{Kind: api.PSeq, Names: []string{"a"}, L: []api.Pat{empty, empty}}), api.ErrKind, 4}, {step(api.Pat{Kind: api.PAlt, Ends: []string{"c"}, L: []api.Pat{empty, empty}}), api.ErrKind, 4}, {step(api.Pat{Kind: api.PStar, Names: []string{"a"}, L: []api.Pat{empty}}), api.ErrKind, 4}, {step(api.Pat{Kind: api.PStar, Ends: []string{"c"}, L: []api.Pat{empty}}), api.ErrKind, 4},
 		{step(api.Pat{Kind: api.PSeq, L: []api.Pat{empty}}), api.ErrKind, 4}, {step(api.Pat{Kind: api.PAlt, L: []api.Pat{empty, empty, empty}}), api.ErrKind, 4}, {step(api.Pat{Kind: api.PStar, L: []api.Pat{empty, empty}}), api.ErrKind, 4},
 		{step(api.Pat{Kind: api.PIn, Names: []string{"o"}, L: []api.Pat{empty}}), api.ErrKind, 4}, {step(api.Pat{Kind: api.PIn, Ends: []string{"c"}, L: []api.Pat{empty}}), api.ErrKind, 4}, {step(api.Pat{Kind: api.PIn, Names: []string{"o"}, Ends: []string{"c"}}), api.ErrKind, 4},
 		{step(api.Pat{Kind: api.PIn, Names: []string{"c"}, Ends: []string{"x"}, L: []api.Pat{empty}}), api.ErrKind, 4}, {step(api.Pat{Kind: api.PIn, Names: []string{"o"}, Ends: []string{"o"}, L: []api.Pat{empty}}), api.ErrKind, 4}, {step(api.Pat{Kind: api.PIn, Names: []string{"o"}, Ends: []string{"x"}, L: []api.Pat{{}}}), api.ErrName, 4},
@@ -165,6 +166,7 @@ func TestLimits(t *testing.T) {
 		step(deep(api.MaxDeep)), step(star(full(59))),
 		func(g *api.Grammar) { g.Rules = slices.Repeat(g.Rules, 4) },
 		func(g *api.Grammar) { g.Rules = nil },
+		func(g *api.Grammar) { g.Tokens, g.Rules = g.Tokens[:1], nil },
 		func(g *api.Grammar) { g.Rules[1].Steps = slices.Repeat(g.Rules[1].Steps, 4) },
 		func(g *api.Grammar) {
 			for n := 3; n < api.MaxTokens; n++ {

@@ -93,6 +93,20 @@ func TestMore(t *testing.T) {
 	}
 }
 
+// 10.2, 10.3: bytes that are no rune are in no set, not even in one with FFFD.
+func TestBad(t *testing.T) {
+	l := []api.Re{set(0, api.MaxRune), seq(one('a'), one(0xFFFD))}
+	for s, want := range map[string]api.Lex{"\xFF": {Rule: -1, To: 1, Look: 1}, "a\xFF": {Rule: 0, To: 1, Look: 2}, "a\uFFFD": {Rule: 1, To: 4, Look: 5}, "\uFFFDa": {Rule: 0, To: 3, Look: 4}} {
+		items := decode.All([]byte(s))
+		if got, _ := One(must(t, l...), items, 0); got != want {
+			t.Errorf("One(%q) = %v", s, got)
+		}
+		if got, _ := Model(l, items, 0); got != want {
+			t.Errorf("Model(%q) = %v", s, got)
+		}
+	}
+}
+
 // 10.2, 10.4: all tokens.
 func TestAll(t *testing.T) {
 	m := must(t, aab...)

@@ -30,7 +30,7 @@ func TestFind(t *testing.T) {
 		line, apart int
 	}{
 		{[]int{0, 3, 5}, 2, 0, 2}, {[]int{0, 3, 5}, 3, 1, 0}, {[]int{0, 3, 5}, 4, 1, 1}, {[]int{0, 3, 5}, 99, 2, 94}, {[]int{0, 3, 5}, 0, 0, 0}, {[]int{0}, math.MaxInt, 0, math.MaxInt},
-		{[]int{0, 3, 3}, 1, -1, -1}, {[]int{0, 3, 2}, 1, -1, -1}, {[]int{1, 3}, 2, -1, -1}, {[]int{-1, 3}, 2, -1, -1}, {nil, 0, -1, -1}, {[]int{0, 3, 5}, -1, -1, -1}, {[]int{0}, math.MinInt, -1, -1},
+		{[]int{0, 3, 3}, 1, -1, -1}, {[]int{0, 0}, 0, -1, -1}, {[]int{0, -1}, 0, -1, -1}, {[]int{0, 0, 3}, 1, -1, -1}, {[]int{0, 3, 2}, 1, -1, -1}, {[]int{1, 3}, 2, -1, -1}, {[]int{-1, 3}, 2, -1, -1}, {nil, 0, -1, -1}, {[]int{0, 3, 5}, -1, -1, -1}, {[]int{0}, math.MinInt, -1, -1},
 	} {
 		if line, apart := Find(x.l, x.at); line != x.line || apart != x.apart {
 			t.Errorf("Find(%v, %d) = %d, %d", x.l, x.at, line, apart)

@@ -69,6 +69,16 @@ func TestBuild(t *testing.T) {
 	}
 }
 
+// 19.1: a symbol without a name may be all that tells states apart.
+func TestNoName(t *testing.T) {
+	g := grammar(rule(at("", alt(seq(token("a"), well), seq(token("b"), star(token("a", "b")))))))
+	g.Tokens = g.Tokens[:2]
+	x, m := must(t, g)
+	if any0, named := m.Of(x.Int(0, a)), m.Of(x.Int(0, b)); any0 == named || m.Rule(any0) != 0 || m.Rule(named) != 0 || m.Int(any0, a) != any0 || m.Int(named, b) != named {
+		t.Error(m)
+	}
+}
+
 // 19.1: no automaton, no such class, no such token.
 func TestWrong(t *testing.T) {
 	g := grammar(free(at("o", well)))

@@ -84,6 +84,9 @@ func TestApart(t *testing.T) {
 
 // 9.1: no automaton.
 func TestNil(t *testing.T) {
+	if Build(new(dfa.Dfa)).Step(0, 'a') != -1 {
+		t.Error("one of nothing")
+	}
 	m := Build(nil)
 	if m != nil || m.Len() != 0 || len(m.Cells()) != 0 || m.Next(0, 0) != -1 || m.Step(0, 'a') != -1 || m.Rule(0) != -1 {
 		t.Error("nil")

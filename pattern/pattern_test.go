@@ -126,6 +126,13 @@ func TestClass(t *testing.T) {
 	}
 }
 
+// 16.2: the empty word has no last symbol, even if a rule matches it.
+func TestClassOfNothing(t *testing.T) {
+	if got := Class(grammar(api.Rule{Class: 10, Steps: []api.Step{{P: well}}}), nil); got != 0 {
+		t.Error(got)
+	}
+}
+
 // naive is 16.1 by its definition, of the letters of a word.
 func naive(p api.Pat, l []api.Sym) bool {
 	if !forest.Well(l) {

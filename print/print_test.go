@@ -33,7 +33,7 @@ var (
 // 14.1: sets.
 func TestSet(t *testing.T) {
 	for want, l := range map[string][]api.Range{
-		"[]": nil, "a": span('a', 'a').Set, "Z": span('Z', 'Z').Set, "0": span('0', '0').Set, "[a-c]": span('a', 'c').Set, "[a-b]": span('a', 'b').Set, "[ac-dz]": span('a', 'a', 'c', 'd', 'z', 'z').Set,
+		"[]": nil, "a": span('a', 'a').Set, "Z": span('Z', 'Z').Set, "0": span('0', '0').Set, "[0-9A-Za-z]": span('0', '9', 'A', 'Z', 'a', 'z').Set, "[a-c]": span('a', 'c').Set, "[a-b]": span('a', 'b').Set, "[ac-dz]": span('a', 'a', 'c', 'd', 'z', 'z').Set,
 		`\u{2D}`: span('-', '-').Set, `\u{0}`: span(0, 0).Set, `\u{A}`: span('\n', '\n').Set, `\u{E9}`: span('é', 'é').Set, `[\u{0}-\u{10FFFF}]`: span(0, api.MaxRune).Set, `[\u{D7FF}-\u{E000}]`: span(0xD7FF, 0xE000).Set, `[\u{60}\u{7B}]`: span('`', '`', '{', '{').Set, `[\u{2F}-0]`: span('/', '0').Set, `\u{5F}`: span('_', '_').Set,
 	} {
 		if got := Set(l); got != want {
@@ -93,6 +93,34 @@ func TestPat(t *testing.T) {
 		if got := Pat(p); got != "" {
 			t.Errorf("%d: %q", i, got)
 		}
+	}
+}
+
+// 14.2: patterns of as many nodes, and as deep, as they may be, and not more.
+func TestPatLimits(t *testing.T) {
+	for deep := 1; deep <= 13; deep++ {
+		p := nil0
+		for n := 1; n < deep; n++ {
+			p = more(p)
+		}
+		want := "()" + strings.Repeat("*", deep-1)
+		if deep > api.MaxDeep {
+			want = ""
+		}
+		if got := Pat(p); got != want {
+			t.Errorf("%d deep: %q", deep, got)
+		}
+	}
+	half := []api.Pat{nil0}
+	for i := 1; i < 5; i++ {
+		half = append(half, palt(half[i-1], half[i-1]))
+	}
+	p := palt(half[4], palt(half[3], more(palt(half[2], nil0)))) // 1 + 31 + 1 + 15 + 1 + 1 + 7 + 1
+	for nodes := 58; nodes < 64; nodes++ {
+		if got := Pat(p); (got == "") != (nodes > api.MaxNodes) {
+			t.Errorf("%d nodes: %q", nodes, got)
+		}
+		p = more(p)
 	}
 }
 

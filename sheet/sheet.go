@@ -121,7 +121,6 @@ func (s *Sheet) nest(t Token, line int) {
 // Out is what the tokens come to so far; state is that behind the last one.
 func (s *Sheet) Out(state int) api.Out {
 	now := *s
-	now.out.Checks = slices.Clip(now.out.Checks)
 	if now.begins {
 		now.check(state)
 	}

@@ -175,6 +175,7 @@ func TestWrong(t *testing.T) {
 	var no *Vpa
 	for _, x := range []int{-1, 4, math.MaxInt, math.MinInt} {
 		is(t, "place", v.Int(x, a))
+		is(t, "place", v.Int(x, -1))
 		calls(t, "place", v.Call(x, o))
 		is(t, "place", v.Ret(x, 0, c))
 		is(t, "symbol", v.Ret(0, x, c))
