@@ -8,13 +8,10 @@ import (
 
 	"gobo/api"
 	"gobo/nfa"
+	"gobo/sample"
 )
 
-func set(lo, hi rune) api.Re { return api.Re{Kind: api.RSet, Set: []api.Range{{Lo: lo, Hi: hi}}} }
-func one(r rune) api.Re      { return set(r, r) }
-func seq(a, b api.Re) api.Re { return api.Re{Kind: api.RSeq, L: []api.Re{a, b}} }
-func alt(a, b api.Re) api.Re { return api.Re{Kind: api.RAlt, L: []api.Re{a, b}} }
-func star(a api.Re) api.Re   { return api.Re{Kind: api.RStar, L: []api.Re{a}} }
+var one, set, seq, alt, star = sample.One, sample.Set, sample.Seq, sample.Alt, sample.Star
 
 func machine(t *testing.T, l ...api.Re) *nfa.Nfa {
 	n, code := nfa.Build(l)
@@ -112,24 +109,11 @@ func TestNil(t *testing.T) {
 	}
 }
 
-func some(r *rand.Rand, deep int) api.Re {
-	if deep == 0 || r.Intn(6) == 0 {
-		return []api.Re{{Kind: api.REmpty}, {Kind: api.RNone}, one('a'), one('b'), set('a', 'b'), one('c')}[r.Intn(6)]
-	}
-	switch r.Intn(3) {
-	case 0:
-		return seq(some(r, deep-1), some(r, deep-1))
-	case 1:
-		return alt(some(r, deep-1), some(r, deep-1))
-	}
-	return star(some(r, deep-1))
-}
-
 // 8.2, 8.3: states are the sets, in the order in which they are found, and one step a rune says what the position automaton says.
 func TestAny(t *testing.T) {
 	r := rand.New(rand.NewSource(8))
 	for i := 0; i < 1000; i++ {
-		l := []api.Re{some(r, 4), some(r, 3)}
+		l := []api.Re{sample.Re(r.Intn, 4), sample.Re(r.Intn, 3)}
 		n, d := machine(t, l...), must(t, l...)
 		sets, found := [][]int{{0}}, 1
 		for s := 0; s < len(sets); s++ {

@@ -5,16 +5,14 @@ import (
 	"testing"
 
 	"gobo/api"
+	"gobo/sample"
 )
 
-func one(r rune) api.Re {
-	return api.Re{Kind: api.RSet, Set: []api.Range{{Lo: r, Hi: r}}}
-}
+var (
+	one                 = sample.One
+	tok, seq, alt, star = sample.Tok, sample.Then, sample.Either, sample.Many
+)
 
-func tok(names ...string) api.Pat { return api.Pat{Kind: api.PTok, Names: names} }
-func seq(a, b api.Pat) api.Pat    { return api.Pat{Kind: api.PSeq, L: []api.Pat{a, b}} }
-func alt(a, b api.Pat) api.Pat    { return api.Pat{Kind: api.PAlt, L: []api.Pat{a, b}} }
-func star(a api.Pat) api.Pat      { return api.Pat{Kind: api.PStar, L: []api.Pat{a}} }
 func in(a api.Pat) api.Pat {
 	return api.Pat{Kind: api.PIn, Names: []string{"o"}, Ends: []string{"c"}, L: []api.Pat{a}}
 }

@@ -10,13 +10,10 @@ import (
 	"gobo/decode"
 	"gobo/mini"
 	"gobo/regex"
+	"gobo/sample"
 )
 
-func set(lo, hi rune) api.Re { return api.Re{Kind: api.RSet, Set: []api.Range{{Lo: lo, Hi: hi}}} }
-func one(r rune) api.Re      { return set(r, r) }
-func seq(a, b api.Re) api.Re { return api.Re{Kind: api.RSeq, L: []api.Re{a, b}} }
-func alt(a, b api.Re) api.Re { return api.Re{Kind: api.RAlt, L: []api.Re{a, b}} }
-func star(a api.Re) api.Re   { return api.Re{Kind: api.RStar, L: []api.Re{a}} }
+var one, set, seq, alt, star = sample.One, sample.Set, sample.Seq, sample.Alt, sample.Star
 
 var (
 	none = api.Re{Kind: api.RNone}
@@ -145,19 +142,6 @@ func TestLong(t *testing.T) {
 	}
 }
 
-func some(r *rand.Rand, deep int) api.Re {
-	if deep == 0 || r.Intn(6) == 0 {
-		return []api.Re{{Kind: api.REmpty}, none, one('a'), one('b'), set('a', 'b'), one('é')}[r.Intn(6)]
-	}
-	switch r.Intn(3) {
-	case 0:
-		return seq(some(r, deep-1), some(r, deep-1))
-	case 1:
-		return alt(some(r, deep-1), some(r, deep-1))
-	}
-	return star(some(r, deep-1))
-}
-
 // want is the token by regex.Is of every prefix.
 func want(l []api.Re, items []api.Item, at int) (rule, size int) {
 	rule, size = -1, 1
@@ -179,7 +163,7 @@ func TestAny(t *testing.T) {
 	r := rand.New(rand.NewSource(10))
 	pieces := []string{"a", "b", "a", "b", "é", "c", "\xFF", "\xC3", "\xE2\x82"}
 	for i := 0; i < 1500; {
-		l := []api.Re{some(r, 4), some(r, 3), some(r, 3)}
+		l := []api.Re{sample.Re(r.Intn, 4), sample.Re(r.Intn, 3), sample.Re(r.Intn, 3)}
 		if slices.ContainsFunc(l, regex.Empty) {
 			continue
 		}

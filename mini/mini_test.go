@@ -8,13 +8,10 @@ import (
 	"gobo/api"
 	"gobo/dfa"
 	"gobo/nfa"
+	"gobo/sample"
 )
 
-func set(lo, hi rune) api.Re { return api.Re{Kind: api.RSet, Set: []api.Range{{Lo: lo, Hi: hi}}} }
-func one(r rune) api.Re      { return set(r, r) }
-func seq(a, b api.Re) api.Re { return api.Re{Kind: api.RSeq, L: []api.Re{a, b}} }
-func alt(a, b api.Re) api.Re { return api.Re{Kind: api.RAlt, L: []api.Re{a, b}} }
-func star(a api.Re) api.Re   { return api.Re{Kind: api.RStar, L: []api.Re{a}} }
+var one, set, seq, alt, star = sample.One, sample.Set, sample.Seq, sample.Alt, sample.Star
 
 var none = api.Re{Kind: api.RNone}
 
@@ -93,19 +90,6 @@ func TestNil(t *testing.T) {
 	}
 }
 
-func some(r *rand.Rand, deep int) api.Re {
-	if deep == 0 || r.Intn(6) == 0 {
-		return []api.Re{{Kind: api.REmpty}, none, one('a'), one('b'), set('a', 'b'), one('c')}[r.Intn(6)]
-	}
-	switch r.Intn(3) {
-	case 0:
-		return seq(some(r, deep-1), some(r, deep-1))
-	case 1:
-		return alt(some(r, deep-1), some(r, deep-1))
-	}
-	return star(some(r, deep-1))
-}
-
 // differ reports whether a string leads s and o of m to other Rules: it walks all pairs that strings reach.
 func differ(m *Mini, s, o int) bool {
 	seen := map[[2]int]int{}
@@ -131,7 +115,7 @@ func differ(m *Mini, s, o int) bool {
 func TestAny(t *testing.T) {
 	r := rand.New(rand.NewSource(9))
 	for i := 0; i < 500; i++ {
-		d := big(t, some(r, 4), some(r, 4))
+		d := big(t, sample.Re(r.Intn, 4), sample.Re(r.Intn, 4))
 		m := Build(d)
 		if !slices.Equal(m.Cells(), d.Cells()) {
 			t.Fatal("cells")

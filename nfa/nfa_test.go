@@ -8,13 +8,10 @@ import (
 
 	"gobo/api"
 	"gobo/regex"
+	"gobo/sample"
 )
 
-func set(lo, hi rune) api.Re { return api.Re{Kind: api.RSet, Set: []api.Range{{Lo: lo, Hi: hi}}} }
-func one(r rune) api.Re      { return set(r, r) }
-func seq(a, b api.Re) api.Re { return api.Re{Kind: api.RSeq, L: []api.Re{a, b}} }
-func alt(a, b api.Re) api.Re { return api.Re{Kind: api.RAlt, L: []api.Re{a, b}} }
-func star(a api.Re) api.Re   { return api.Re{Kind: api.RStar, L: []api.Re{a}} }
+var one, set, seq, alt, star = sample.One, sample.Set, sample.Seq, sample.Alt, sample.Star
 
 var (
 	none  = api.Re{Kind: api.RNone}
@@ -115,26 +112,13 @@ func TestNil(t *testing.T) {
 	}
 }
 
-func some(r *rand.Rand, deep int) api.Re {
-	if deep == 0 || r.Intn(5) == 0 {
-		return []api.Re{none, empty, one('a'), one('b'), set('a', 'b'), one('c')}[r.Intn(6)]
-	}
-	switch r.Intn(3) {
-	case 0:
-		return seq(some(r, deep-1), some(r, deep-1))
-	case 1:
-		return alt(some(r, deep-1), some(r, deep-1))
-	}
-	return star(some(r, deep-1))
-}
-
 // 7.2: the Rules of what a string leads to are the expressions that it matches.
 func TestAny(t *testing.T) {
 	r := rand.New(rand.NewSource(7))
 	for i := 0; i < 3000; i++ {
 		var l []api.Re
 		for n := 1 + r.Intn(4); n > 0; n-- {
-			l = append(l, some(r, 3))
+			l = append(l, sample.Re(r.Intn, 3))
 		}
 		n := must(t, l...)
 		now, s := []int{0}, []rune(nil)

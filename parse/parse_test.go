@@ -8,13 +8,13 @@ import (
 	"gobo/api"
 	"gobo/gram"
 	"gobo/regex"
+	"gobo/sample"
 )
 
-func span(lo, hi rune) api.Re { return api.Re{Kind: api.RSet, Set: []api.Range{{Lo: lo, Hi: hi}}} }
-func one(r rune) api.Re       { return span(r, r) }
-func seq(a, b api.Re) api.Re  { return api.Re{Kind: api.RSeq, L: []api.Re{a, b}} }
-func alt(a, b api.Re) api.Re  { return api.Re{Kind: api.RAlt, L: []api.Re{a, b}} }
-func star(a api.Re) api.Re    { return api.Re{Kind: api.RStar, L: []api.Re{a}} }
+var (
+	span, one, seq, alt, star = sample.Set, sample.One, sample.Seq, sample.Alt, sample.Star
+	tok, more                 = sample.Tok, sample.Many
+)
 
 var none = api.Re{Kind: api.REmpty}
 
@@ -67,12 +67,10 @@ func TestReDeep(t *testing.T) {
 	}
 }
 
-func tok(names ...string) api.Pat { return api.Pat{Kind: api.PTok, Names: names} }
 func in(o, c []string, p api.Pat) api.Pat {
 	return api.Pat{Kind: api.PIn, Names: o, Ends: c, L: []api.Pat{p}}
 }
 func two(kind int, a, b api.Pat) api.Pat { return api.Pat{Kind: kind, L: []api.Pat{a, b}} }
-func more(a api.Pat) api.Pat             { return api.Pat{Kind: api.PStar, L: []api.Pat{a}} }
 
 const head = "tok a int 1 = /a/\ntok b int 002 = /b/ # two\n\r\ntok o call 3=/\\//\ntok c ret 31 = /#/"
 

@@ -7,44 +7,25 @@ import (
 
 	"gobo/api"
 	"gobo/forest"
+	"gobo/sample"
 )
 
-func tok(names ...string) api.Pat { return api.Pat{Kind: api.PTok, Names: names} }
-func seq(a, b api.Pat) api.Pat    { return api.Pat{Kind: api.PSeq, L: []api.Pat{a, b}} }
-func alt(a, b api.Pat) api.Pat    { return api.Pat{Kind: api.PAlt, L: []api.Pat{a, b}} }
-func star(a api.Pat) api.Pat      { return api.Pat{Kind: api.PStar, L: []api.Pat{a}} }
-func in(o, c string, p api.Pat) api.Pat {
-	return api.Pat{Kind: api.PIn, Names: []string{o}, Ends: []string{c}, L: []api.Pat{p}}
-}
-func at(calls string, p api.Pat) api.Step {
-	var l []string
-	for _, c := range calls {
-		l = append(l, string(c))
-	}
-	return api.Step{Calls: l, P: p}
-}
+var (
+	tok, seq, alt, star, in = sample.Tok, sample.Then, sample.Either, sample.Many, sample.In
+	at, grammar             = sample.Step, sample.Grammar
+)
 
 var (
 	empty = api.Pat{Kind: api.PEmpty}
 	well  = api.Pat{Kind: api.PWell}
 )
 
-const letters = "abopcd" // Internal a b, Call o p, Return c d
-
-func grammar(rules ...api.Rule) api.Grammar {
-	g := api.Grammar{Rules: rules}
-	for i, c := range letters {
-		g.Tokens = append(g.Tokens, api.Token{Name: string(c), Kind: i / 2, Class: i + 1, Re: api.Re{Kind: api.RSet, Set: []api.Range{{Lo: c, Hi: c}}}})
-	}
-	return g
-}
-
 // syms is a symbol for each letter, and ? for one without a name.
 func syms(s string) []api.Sym {
 	var l []api.Sym
 	for _, c := range s {
 		sym := api.Sym{Tok: -1}
-		for i, x := range letters {
+		for i, x := range sample.Letters {
 			if x == c {
 				sym = api.Sym{Tok: i, Kind: i / 2}
 			}
@@ -133,13 +114,13 @@ func TestClassOfNothing(t *testing.T) {
 	}
 }
 
-// naive is 16.1 by its definition, of the letters of a word.
+// naive is 16.1 by its definition, of the sample.Letters of a word.
 func naive(p api.Pat, l []api.Sym) bool {
 	if !forest.Well(l) {
 		return false
 	}
 	name := func(s api.Sym, names []string) bool {
-		return s.Tok >= 0 && slices.Contains(names, letters[s.Tok:s.Tok+1])
+		return s.Tok >= 0 && slices.Contains(names, sample.Letters[s.Tok:s.Tok+1])
 	}
 	switch p.Kind {
 	case api.PEmpty:
@@ -181,7 +162,7 @@ func naiveRule(r api.Rule, l []api.Sym) bool {
 				}
 				continue
 			}
-			if slices.Contains(open, end) && slices.Contains(r.Steps[step+1].Calls, letters[l[end].Tok:l[end].Tok+1]) && from(end+1, step+1) {
+			if slices.Contains(open, end) && slices.Contains(r.Steps[step+1].Calls, sample.Letters[l[end].Tok:l[end].Tok+1]) && from(end+1, step+1) {
 				return true
 			}
 		}
@@ -191,23 +172,8 @@ func naiveRule(r api.Rule, l []api.Sym) bool {
 		return from(0, 0)
 	}
 	return slices.ContainsFunc(open, func(c int) bool {
-		return slices.Contains(r.Steps[0].Calls, letters[l[c].Tok:l[c].Tok+1]) && from(c+1, 0)
+		return slices.Contains(r.Steps[0].Calls, sample.Letters[l[c].Tok:l[c].Tok+1]) && from(c+1, 0)
 	})
-}
-
-func some(r *rand.Rand, deep int) api.Pat {
-	if deep == 0 || r.Intn(6) == 0 {
-		return []api.Pat{empty, well, tok("a"), tok("a", "b"), tok("b")}[r.Intn(5)]
-	}
-	switch r.Intn(5) {
-	case 0:
-		return seq(some(r, deep-1), some(r, deep-1))
-	case 1:
-		return alt(some(r, deep-1), some(r, deep-1))
-	case 2:
-		return star(some(r, deep-1))
-	}
-	return in("op"[r.Intn(2):][:1], "cd"[r.Intn(2):][:1], some(r, deep-1))
 }
 
 // 16.1, 16.2: as defined.
@@ -219,13 +185,13 @@ func TestAny(t *testing.T) {
 			s += "aabooppccdd?"[r.Intn(12):][:1]
 		}
 		l := syms(s)
-		p := some(r, 4)
+		p := sample.Pat(r.Intn, 4)
 		if Is(grammar(), p, l) != naive(p, l) {
 			t.Fatalf("Is(%v, %q)", p, s)
 		}
 		rule := api.Rule{Free: r.Intn(2) == 0}
 		for n := 1 + r.Intn(3); n > 0; n-- {
-			rule.Steps = append(rule.Steps, at([]string{"o", "p", "op"}[r.Intn(3)], some(r, 2)))
+			rule.Steps = append(rule.Steps, at([]string{"o", "p", "op"}[r.Intn(3)], sample.Pat(r.Intn, 2)))
 		}
 		if !rule.Free {
 			rule.Steps[0].Calls = nil

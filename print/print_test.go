@@ -11,19 +11,13 @@ import (
 	"gobo/parse"
 	"gobo/regex"
 	"gobo/runes"
+	"gobo/sample"
 )
 
-func span(ends ...rune) api.Re {
-	e := api.Re{Kind: api.RSet}
-	for i := 0; i < len(ends); i += 2 {
-		e.Set = append(e.Set, api.Range{Lo: ends[i], Hi: ends[i+1]})
-	}
-	return e
-}
-func one(r rune) api.Re      { return span(r, r) }
-func seq(a, b api.Re) api.Re { return api.Re{Kind: api.RSeq, L: []api.Re{a, b}} }
-func alt(a, b api.Re) api.Re { return api.Re{Kind: api.RAlt, L: []api.Re{a, b}} }
-func star(a api.Re) api.Re   { return api.Re{Kind: api.RStar, L: []api.Re{a}} }
+var (
+	span, one, seq, alt, star = sample.Set, sample.One, sample.Seq, sample.Alt, sample.Star
+	tok, pseq, palt, more     = sample.Tok, sample.Then, sample.Either, sample.Many
+)
 
 var (
 	none  = api.Re{Kind: api.RNone}
@@ -60,14 +54,9 @@ func TestRe(t *testing.T) {
 	}
 }
 
-func tok(names ...string) api.Pat        { return api.Pat{Kind: api.PTok, Names: names} }
-func two(kind int, a, b api.Pat) api.Pat { return api.Pat{Kind: kind, L: []api.Pat{a, b}} }
-func more(a api.Pat) api.Pat             { return api.Pat{Kind: api.PStar, L: []api.Pat{a}} }
 func in(o, c []string, p api.Pat) api.Pat {
 	return api.Pat{Kind: api.PIn, Names: o, Ends: c, L: []api.Pat{p}}
 }
-func pseq(a, b api.Pat) api.Pat { return two(api.PSeq, a, b) }
-func palt(a, b api.Pat) api.Pat { return two(api.PAlt, a, b) }
 
 var (
 	well = api.Pat{Kind: api.PWell}

@@ -6,13 +6,10 @@ import (
 	"testing"
 
 	"gobo/api"
+	"gobo/sample"
 )
 
-func set(lo, hi rune) api.Re { return api.Re{Kind: api.RSet, Set: []api.Range{{Lo: lo, Hi: hi}}} }
-func one(r rune) api.Re      { return set(r, r) }
-func seq(a, b api.Re) api.Re { return api.Re{Kind: api.RSeq, L: []api.Re{a, b}} }
-func alt(a, b api.Re) api.Re { return api.Re{Kind: api.RAlt, L: []api.Re{a, b}} }
-func star(a api.Re) api.Re   { return api.Re{Kind: api.RStar, L: []api.Re{a}} }
+var one, set, seq, alt, star = sample.One, sample.Set, sample.Seq, sample.Alt, sample.Star
 
 var (
 	none  = api.Re{Kind: api.RNone}
@@ -210,24 +207,11 @@ func naive(e api.Re, s []rune) bool {
 	return false
 }
 
-func some(r *rand.Rand, deep int) api.Re {
-	if deep == 0 || r.Intn(5) == 0 {
-		return []api.Re{none, empty, one('a'), one('b'), set('a', 'b'), one('a')}[r.Intn(6)]
-	}
-	switch r.Intn(3) {
-	case 0:
-		return seq(some(r, deep-1), some(r, deep-1))
-	case 1:
-		return alt(some(r, deep-1), some(r, deep-1))
-	}
-	return star(some(r, deep-1))
-}
-
 // 6.2, 6.3: expressions match what their definition says.
 func TestAny(t *testing.T) {
 	r := rand.New(rand.NewSource(6))
 	for i := 0; i < 4000; i++ {
-		e := some(r, 4)
+		e := sample.Re(r.Intn, 4)
 		s := make([]rune, r.Intn(7))
 		for k := range s {
 			s[k] = rune("aaaabbbbc"[r.Intn(9)])

@@ -9,42 +9,21 @@ import (
 	"gobo/api"
 	"gobo/gram"
 	"gobo/pattern"
+	"gobo/sample"
 )
 
-func token(names ...string) api.Pat { return api.Pat{Kind: api.PTok, Names: names} }
-func seq(a, b api.Pat) api.Pat      { return api.Pat{Kind: api.PSeq, L: []api.Pat{a, b}} }
-func alt(a, b api.Pat) api.Pat      { return api.Pat{Kind: api.PAlt, L: []api.Pat{a, b}} }
-func star(a api.Pat) api.Pat        { return api.Pat{Kind: api.PStar, L: []api.Pat{a}} }
-func within(o, c string, p api.Pat) api.Pat {
-	return api.Pat{Kind: api.PIn, Names: []string{o}, Ends: []string{c}, L: []api.Pat{p}}
-}
-func at(calls string, p api.Pat) api.Step {
-	var l []string
-	for _, c := range calls {
-		l = append(l, string(c))
-	}
-	return api.Step{Calls: l, P: p}
-}
+var (
+	token, seq, alt, star, within = sample.Tok, sample.Then, sample.Either, sample.Many, sample.In
+	at, grammar                   = sample.Step, sample.Grammar
+	rule, freely                  = sample.Rule, sample.Free
+)
 
 var (
 	empty = api.Pat{Kind: api.PEmpty}
 	any0  = api.Pat{Kind: api.PWell}
 )
 
-const letters = "abopcd" // Internal a b, Call o p, Return c d
-
-const a, b, o, p, c, d = 0, 1, 2, 3, 4, 5
-
-func grammar(rules ...api.Rule) api.Grammar {
-	g := api.Grammar{Rules: rules}
-	for i, c := range letters {
-		g.Tokens = append(g.Tokens, api.Token{Name: string(c), Kind: i / 2, Class: i + 1, Re: api.Re{Kind: api.RSet, Set: []api.Range{{Lo: c, Hi: c}}}})
-	}
-	return g
-}
-
-func rule(steps ...api.Step) api.Rule   { return api.Rule{Steps: steps} }
-func freely(steps ...api.Step) api.Rule { return api.Rule{Free: true, Steps: steps} }
+const a, b, o, p, c, d = sample.A, sample.B, sample.O, sample.P, sample.C, sample.D
 
 func must(t *testing.T, rules ...api.Rule) *Vpa {
 	t.Helper()
@@ -223,36 +202,11 @@ func follow(v *Vpa, ways map[way]int, s api.Sym) map[way]int {
 	return out
 }
 
-func some(r *rand.Rand, deep int) api.Pat {
-	if deep == 0 || r.Intn(6) == 0 {
-		return []api.Pat{empty, any0, token("a"), token("a", "b"), token("b")}[r.Intn(5)]
-	}
-	switch r.Intn(5) {
-	case 0:
-		return seq(some(r, deep-1), some(r, deep-1))
-	case 1:
-		return alt(some(r, deep-1), some(r, deep-1))
-	case 2:
-		return star(some(r, deep-1))
-	}
-	return within("op"[r.Intn(2):][:1], "cd"[r.Intn(2):][:1], some(r, deep-1))
-}
-
 // 17.3: a word matches a rule exactly if there is a way to a place of that Rule.
 func TestAny(t *testing.T) {
 	r := rand.New(rand.NewSource(17))
 	for i := 0; i < 3000; i++ {
-		var rules []api.Rule
-		for n := 1 + r.Intn(2); n > 0; n-- {
-			x := api.Rule{Free: r.Intn(2) == 0}
-			for k := 1 + r.Intn(3); k > 0; k-- {
-				x.Steps = append(x.Steps, at([]string{"o", "p", "op"}[r.Intn(3)], some(r, 3)))
-			}
-			if !x.Free {
-				x.Steps[0].Calls = nil
-			}
-			rules = append(rules, x)
-		}
+		rules := sample.Rules(r.Intn, 3, 3)
 		g, v := grammar(rules...), must(t, rules...)
 		ways := map[way]int{}
 		for _, s := range v.Start() {
