@@ -68,9 +68,9 @@ func newMaker(g api.Grammar, d *Det, most int) *maker {
 	return m
 }
 
-// make finds all states, in the order of chapter 18, and reports whether there
+// find finds all states, in the order of chapter 18, and reports whether there
 // are not too many.
-func (m *maker) make() bool {
+func (m *maker) find() bool {
 	var first [][2]int
 	for _, p := range m.v.Start() {
 		first = append(first, [2]int{p, p})

@@ -48,8 +48,8 @@ func (x *expression) fail() {
 	panic(fault{api.ErrParse, x.place(x.at)})
 }
 
-// rune is the rune of the Item with the index i, or -1 where there is none.
-func (x *expression) rune(i int) rune {
+// runeAt is the rune of the Item with the index i, or -1 where there is none.
+func (x *expression) runeAt(i int) rune {
 	if i >= len(x.items) || x.items[i].Bad {
 		return -1
 	}
@@ -58,7 +58,7 @@ func (x *expression) rune(i int) rune {
 
 // skip passes the next rune if it is r.
 func (x *expression) skip(r rune) bool {
-	if x.rune(x.at) != r {
+	if x.runeAt(x.at) != r {
 		return false
 	}
 	x.at++
@@ -88,7 +88,7 @@ func (x *expression) alt() api.Re {
 
 // atomNext reports whether an ATOM begins with the next rune.
 func (x *expression) atomNext() bool {
-	r := x.rune(x.at)
+	r := x.runeAt(x.at)
 	return r >= ' ' && (!strings.ContainsRune(noRunes, r) || strings.ContainsRune(`([\.`, r))
 }
 
@@ -104,7 +104,7 @@ func (x *expression) post() api.Re {
 // atom reads an ATOM, which is there.
 func (x *expression) atom() api.Re {
 	from := x.place(x.at)
-	r := x.rune(x.at)
+	r := x.runeAt(x.at)
 	x.at++
 	switch r {
 	case '(':
@@ -140,8 +140,8 @@ func (x *expression) parens(from int) api.Re {
 // class reads a class from from, behind its [, up to the first ] that is not
 // escaped. Where there is none, the end is in error if nothing else is.
 func (x *expression) class(from int) api.Re {
-	for x.at < len(x.items) && x.rune(x.at) != ']' {
-		if x.rune(x.at) == '\\' && x.at+1 < len(x.items) {
+	for x.at < len(x.items) && x.runeAt(x.at) != ']' {
+		if x.runeAt(x.at) == '\\' && x.at+1 < len(x.items) {
 			x.at++
 		}
 		x.at++
@@ -156,7 +156,7 @@ func (x *expression) class(from int) api.Re {
 // escape reads an escape sequence, whose \ is at from.
 func (x *expression) escape(from int) api.Re {
 	long := x.skip('u')
-	for long && x.at < len(x.items) && x.rune(x.at) != '}' {
+	for long && x.at < len(x.items) && x.runeAt(x.at) != '}' {
 		x.at++
 	}
 	if x.at < len(x.items) {

@@ -77,13 +77,13 @@ func (c *class) take(may func(rune) bool) rune {
 
 // element reads a rune, or two with a - between.
 func (c *class) element() api.Range {
-	lo := c.rune()
+	lo := c.letter()
 	if c.peek() != '-' {
 		return api.Range{Lo: lo, Hi: lo}
 	}
 	c.at++
 	second := c.at
-	hi := c.rune()
+	hi := c.letter()
 	if hi < lo {
 		c.at = second
 		c.fail()
@@ -91,8 +91,8 @@ func (c *class) element() api.Range {
 	return api.Range{Lo: lo, Hi: hi}
 }
 
-// rune reads a rune, escaped or not.
-func (c *class) rune() rune {
+// letter reads a rune, escaped or not.
+func (c *class) letter() rune {
 	r := c.take(func(r rune) bool { return r >= ' ' && !strings.ContainsRune("/|*()[]-", r) })
 	if r != '\\' {
 		return r
